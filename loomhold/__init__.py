@@ -1,0 +1,1 @@
+"""Loomhold: cloths of any length, told by what a stretch does to the threads."""

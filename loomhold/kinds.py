@@ -1,0 +1,42 @@
+"""Small questions about values, asked by constructors and checkers of any value."""
+
+LETTERS = "abcdefghijklmnopqrstuvwxyz"
+
+
+def is_int(thing):
+    """Tell whether a value is an integer; a bool is none."""
+    return isinstance(thing, int) and not isinstance(thing, bool)
+
+
+def is_number_below(thing, limit):
+    """Tell whether a value is an integer from 0 on, below a limit."""
+    return is_int(thing) and 0 <= thing < limit
+
+
+def is_ascending(row):
+    """Tell whether a string or tuple of comparable values is sorted, without duplicates."""
+    return all([one < other for one, other in zip(row, row[1:])])
+
+
+def is_tuple_below(thing, limit):
+    """Tell whether a value is an ascending tuple of integers from 0 on, below a limit."""
+    if not isinstance(thing, tuple):
+        return False
+    return all([is_number_below(item, limit) for item in thing]) and is_ascending(thing)
+
+
+def are_letters(thing):
+    """Tell whether a value is an ascending string of one or more letters from a to z."""
+    if not isinstance(thing, str) or thing == "":
+        return False
+    return all([sign in LETTERS for sign in thing]) and is_ascending(thing)
+
+
+def is_string_over(thing, signs):
+    """Tell whether a value is a string, perhaps empty, of some signs alone."""
+    return isinstance(thing, str) and all([sign in signs for sign in thing])
+
+
+def is_paper(thing, word, many):
+    """Tell whether a value is a tuple of so many items that begins with a word."""
+    return isinstance(thing, tuple) and len(thing) == many and thing[0] == word

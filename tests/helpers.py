@@ -1,0 +1,174 @@
+"""What the tests share: looms and charts of the document, any values, changed papers, and slow right answers."""
+
+import random
+
+from loomhold.beams import Beam
+from loomhold.charts import Chart
+from loomhold.cloths import Cloth
+from loomhold.elements import element_of
+from loomhold.errors import BadLoom
+from loomhold.looms import Loom
+
+PLAIN = Loom(2, (0, 1, 0, 1), ((0,), (1,)))
+DOUBLE = Loom(4, (0, 1, 2, 3), ((0,), (1,), (0, 1, 2), (0, 1, 3)))
+LOOSE = Loom(2, (0, 1), ((0,), (1,), (0, 1)))
+SPARE = Loom(4, (3, 1, 3, 0), ((1, 3), (0, 2), (), (0, 1, 3)))
+
+
+def deep(value, depth, kind):
+    """A value within so many tuples or lists."""
+    for _ in range(depth):
+        value = kind([value])
+    return value
+
+
+FIXED_VALUES = (
+    None, True, False, 0, 1, -1, 2, -2, 99, 100, 10 ** 30, 10 ** 30 + 1, 10 ** 39, -10 ** 39,
+    "", "a", "b", "ab", "ba", "aa", "x", "-", "x-", "0", "1", " ", "\n", "A", "%", "()", "[]", "[a|b]", "(a)*",
+    "end", "pick", "holds", "apart", "alike", "parted", "a" * 4000, "(" * 4000, "1(" * 2000, "x" * 3999 + "\n",
+    "9" * 4000, "shafts " + "9" * 3000,
+    (), ((),), [], [()], {}, {"a": 1}, {1: []}, {(): {}}, (0,), (1, 0), (0, 1), (True,), (False, True), ("a",), ["a"],
+    ("", ""), (None,), ([],), ({},), ((), ()), (0, "a", 0), (0, "a", True), [0, "a", 0], ("end", 0), ("end", True),
+    ("pick", 0), ["end", 0], ("end", 0, 0), ("end",), (2, ("a",)), (True, ("a",)), (-1, ("a",)), [2, ("a",)],
+    ("holds", ()), ("holds", []), ("apart", ()), ("apart", None), ("alike", ((0, 0),)), ("parted", ""), ("parted", None),
+    ("holds", ("end", 0)), ("holds",), ("apart", (("end", 0),), 0), ["holds", (("end", 0),)],
+    deep((), 12, tuple), deep([], 12, list), deep("a", 11, tuple), tuple(range(5000)), ("a",) * 5000, list(range(5000)),
+    PLAIN, (PLAIN,), [PLAIN], Cloth(("x-", "-x")), (Cloth(("x",)), 0), Chart("a", 1, (), (0,)), element_of(PLAIN, "ab"),
+    Beam(PLAIN, ("ab",)), ((("end", 0), PLAIN),), {"k": PLAIN}, ("holds", (PLAIN,)), ("holds", PLAIN), (PLAIN, ("a",)),
+    ("alike", (PLAIN, [0, 0])), ("alike", ((0, 0), (0, True))), BadLoom("shafts"),
+)
+
+
+def random_value(rng, depth=4):
+    """Some value built from the kinds that "any value" names."""
+    if depth > 0 and rng.random() < 0.5:
+        parts = [random_value(rng, depth - 1) for _ in range(rng.randrange(4))]
+        kind = rng.randrange(4)
+        if kind == 0:
+            return parts
+        if kind == 1:
+            return {place: part for place, part in enumerate(parts)}
+        return tuple(parts)
+    return rng.choice(FIXED_VALUES)
+
+
+def some_values(seed, many):
+    """The fixed values, and so many further ones."""
+    rng = random.Random(seed)
+    return [*FIXED_VALUES, *[random_value(rng) for _ in range(many)]]
+
+
+def changed(rng, value):
+    """A value with one part, at any depth, otherwise, left out, exchanged or repeated."""
+    if not isinstance(value, (tuple, list)) or len(value) == 0 or rng.random() < 0.15:
+        return changed_leaf(rng, value)
+    parts = list(value)
+    at = rng.randrange(len(parts))
+    way = rng.randrange(10)
+    if way < 6:
+        parts[at] = changed(rng, parts[at])
+    elif way == 6:
+        del parts[at]
+    elif way == 7:
+        parts.insert(rng.randrange(len(parts) + 1), parts[at])
+    elif way == 8:
+        other = rng.randrange(len(parts))
+        parts[at], parts[other] = parts[other], parts[at]
+    else:
+        return list(parts) if rng.random() < 0.5 else tuple(parts[::-1])
+    return tuple(parts) if isinstance(value, tuple) else parts
+
+
+def changed_leaf(rng, value):
+    """Another value in the place of one: near to it, or any."""
+    if isinstance(value, bool) or rng.random() < 0.3:
+        return rng.choice(FIXED_VALUES)
+    if isinstance(value, int):
+        return rng.choice([value + 1, value - 1, -value, bool(value), str(value), value + 10 ** 30])
+    if isinstance(value, str):
+        return rng.choice([value + "a", value[1:], value[::-1], value.upper(), list(value), value + "\n"])
+    return rng.choice(FIXED_VALUES)
+
+
+def changed_values(seed, value, many):
+    """So many values that come from a value by one to three changes."""
+    rng = random.Random(seed)
+    out = []
+    for _ in range(many):
+        other = value
+        for _ in range(rng.choice([1, 1, 2, 3])):
+            other = changed(rng, other)
+        out.append(other)
+    return out
+
+
+def is_true_int(thing):
+    """Tell whether a value is an integer, no bool."""
+    return type(thing) is int
+
+
+def is_sorted(row):
+    """Tell whether comparable values ascend."""
+    return list(row) == sorted(set(row))
+
+
+def random_loom(rng, shafts=4, ends=6, letters=4):
+    """Some loom of at most so many shafts, ends and treadles."""
+    many = rng.randrange(1, shafts + 1)
+    threading = tuple(rng.randrange(many) for _ in range(rng.randrange(1, ends + 1)))
+    lifts = tuple(tuple(s for s in range(many) if rng.random() < 0.5) for _ in range(rng.randrange(1, letters + 1)))
+    return Loom(many, threading, lifts)
+
+
+def random_cloth(rng, picks=5, ends=5):
+    """Some cloth of at most so many picks and ends."""
+    width = rng.randrange(1, ends + 1)
+    return Cloth(tuple("".join(rng.choice("x-") for _ in range(width)) for _ in range(rng.randrange(1, picks + 1))))
+
+
+def random_chart(rng, states=4, letters="abcd", full=None):
+    """Some chart of at most so many states over the first few of some letters."""
+    many = rng.randrange(1, states + 1)
+    own = letters[:rng.randrange(1, len(letters) + 1)]
+    share = full if full is not None else rng.choice([0.3, 0.6, 0.9, 1])
+    moves = tuple((s, x, rng.randrange(many)) for s in range(many) for x in own if rng.random() < share)
+    return Chart(own, many, moves, tuple(s for s in range(many) if rng.random() < 0.5))
+
+
+def random_word(rng, letters, most):
+    """Some string of at most so many of these letters."""
+    return "".join(rng.choice(letters) for _ in range(rng.randrange(most + 1)))
+
+
+def words_to(letters, most):
+    """All strings of at most so many letters, in order."""
+    words = [""]
+    row = [""]
+    for _ in range(most):
+        row = [word + letter for word in row for letter in letters]
+        words.extend(row)
+    return words
+
+
+def lets(chart, word):
+    """Tell whether a string is a treadling of a chart, move by move."""
+    state = 0
+    for letter in word:
+        targets = [target for here, sign, target in chart.moves if (here, sign) == (state, letter)]
+        if not targets:
+            return False
+        state = targets[0]
+    return state in chart.ends
+
+
+def language(chart, letters, most):
+    """The set of the treadlings of a chart with at most so many letters."""
+    return {word for word in words_to(letters, most) if lets(chart, word)}
+
+
+def raised(case, error, call, *things, **more):
+    """The error of just this class that a call raises."""
+    with case.assertRaises(error) as caught:
+        call(*things, **more)
+    case.assertIs(type(caught.exception), error)
+    return caught.exception
