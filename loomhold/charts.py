@@ -177,7 +177,7 @@ def many_treadlings(chart, length):
 def longest_treadling(chart):
     """How many letters the longest treadlings have, None if there are none, or ever longer ones."""
     useful = {state: True for state in useful_states(chart)}
-    moves = [(state, target) for state, _, target in chart.moves if state in useful and target in useful]
+    moves = [(state, target) for state, _, target in chart.moves if target in useful]
     met = {0: True} if useful else {}
     # A way of as many moves as there are states comes twice to one of them: then there is no longest one.
     for length in range(len(useful)):
@@ -192,7 +192,7 @@ def treadlings_of(chart, length):
     """Yield the treadlings with so many letters, in order."""
     steps = steps_of(chart)
     near = near_ends(chart, length)
-    waiting = [("", state) for state in near[length] if state == 0]
+    waiting = [("", 0)] if 0 in near[length] else []
     while waiting:
         word, state = waiting.pop()
         left = length - len(word)

@@ -59,7 +59,7 @@ def element_of(loom, treadling):
     if not is_treadling(loom, treadling):
         raise BadTreadling(treadling)
     lifts = [loom.lift_of(letter) for letter in letters_of(treadling)]
-    shafts = range(loom.shafts)
+    shafts = list(range(loom.shafts))
     pairs = [(s, t) for s in shafts for t in shafts if any([s in lift and t not in lift for lift in lifts])]
     above = [not any([shaft in lift for shaft in loom.used]) for lift in lifts]
     below = [all([shaft in lift for shaft in loom.used]) for lift in lifts]

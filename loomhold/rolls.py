@@ -89,6 +89,6 @@ def roll_read(loom, text):
     if not isinstance(text, str):
         raise BadText(0)
     roll, behind = items_read(text, 0, MOST_DEEP)
-    if roll is None or behind != len(text) or not is_roll(loom, roll):
+    if behind != len(text) or not is_roll(loom, roll):
         raise BadText(0)
     return roll

@@ -107,6 +107,32 @@ class AlikeTest(unittest.TestCase):
         for thing in wrong:
             self.assertIs(alike_holds(one, other, thing), False, thing)
 
+    def test_pairs_of_no_states(self):
+        one = Chart("a", 2, ((0, "a", 0),), (0,))
+        other = Chart("a", 2, ((0, "a", 0),), (0,))
+        for pair, told in (((1, 1), True), ((1, -1), True), ((-1, 1), True), ((-1, -1), False), ((2, -1), False), ((-1, 2), False),
+                           ((2, 1), False), ((1, 2), False), ((-2, 1), False), ((1, -2), False), ((-2, -1), False), ((9, 9), False)):
+            pairs = tuple(sorted([(0, 0), pair]))
+            self.assertIs(alike_holds(one, other, ("alike", pairs)), told, pair)
+
+    def test_pairs_that_are_uneven(self):
+        rng = random.Random(46)
+        parted = 0
+        for _ in range(200):
+            one = random_chart(rng, 3, "ab")
+            other = random_chart(rng, 3, "ab")
+            pairs = {(0, 0)}
+            while True:
+                more = {tuple(-1 if chart.led(state, letter) is None else chart.led(state, letter)
+                              for chart, state in zip((one, other), pair)) for pair in pairs for letter in "ab"}
+                if more - {(-1, -1)} <= pairs:
+                    break
+                pairs |= more - {(-1, -1)}
+            told = judge_alike(one, other)[0] == "alike"
+            parted += not told
+            self.assertIs(alike_holds(one, other, ("alike", tuple(sorted(pairs)))), told)
+        self.assertGreater(parted, 50)
+
     def test_any_values(self):
         one = Chart("a", 1, ((0, "a", 0),), (0,))
         other = chart_of("(ab)*", "ab")

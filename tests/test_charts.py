@@ -7,7 +7,8 @@ import unittest
 from loomhold.charts import (
     Chart, first_treadling, has_treadling, longest_treadling, many_treadlings, treadlings_of, useful_states)
 from loomhold.errors import BadChart, BadText
-from tests.helpers import PLAIN, is_true_int, language, lets, raised, random_chart, random_word, some_values, words_to
+from tests.helpers import (
+    PLAIN, changed_values, is_true_int, language, lets, raised, random_chart, random_word, some_values, words_to)
 
 ALL = Chart("abcd", 1, tuple((0, letter, 0) for letter in "abcd"), (0,))
 NONE = Chart("a", 1, (), ())
@@ -88,6 +89,19 @@ class ChartTest(unittest.TestCase):
                 self.assertEqual(Chart(*parts).ends, parts[3])
             else:
                 self.assertEqual(raised(self, BadChart, Chart, *parts).part, part)
+
+    def test_changed_parts(self):
+        rng = random.Random(40)
+        for seed in range(60):
+            chart = random_chart(rng, 4, "abc")
+            for parts in changed_values(seed, [chart.letters, chart.states, chart.moves, chart.ends], 60):
+                if type(parts) is not list or len(parts) != 4:
+                    continue
+                part = bad_part(*parts)
+                if part is None:
+                    self.assertEqual(Chart(*parts).moves, parts[2])
+                else:
+                    self.assertEqual(raised(self, BadChart, Chart, *parts).part, part)
 
     def test_equal(self):
         chart = Chart("ab", 2, ((0, "a", 1),), (1,))

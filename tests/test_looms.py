@@ -6,7 +6,7 @@ import unittest
 from loomhold.cloths import Cloth
 from loomhold.errors import BadLoom, BadText
 from loomhold.looms import Loom, is_treadling
-from tests.helpers import PLAIN, is_true_int, raised, random_loom, some_values
+from tests.helpers import PLAIN, changed_values, is_true_int, raised, random_loom, some_values
 
 LETTERS = "abcdefghijklmnopqrstuvwxyz"
 
@@ -80,6 +80,19 @@ class LoomTest(unittest.TestCase):
                 self.assertEqual(Loom(*parts).lifts, parts[2])
             else:
                 self.assertEqual(raised(self, BadLoom, Loom, *parts).part, part)
+
+    def test_changed_parts(self):
+        rng = random.Random(8)
+        for seed in range(60):
+            loom = random_loom(rng)
+            for parts in changed_values(seed, [loom.shafts, loom.threading, loom.lifts], 60):
+                if type(parts) is not list or len(parts) != 3:
+                    continue
+                part = bad_part(*parts)
+                if part is None:
+                    self.assertEqual(Loom(*parts).threading, parts[1])
+                else:
+                    self.assertEqual(raised(self, BadLoom, Loom, *parts).part, part)
 
     def test_equal(self):
         self.assertTrue(PLAIN == Loom(2, (0, 1, 0, 1), ((0,), (1,))))
