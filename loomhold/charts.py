@@ -4,6 +4,7 @@ from loomhold.errors import BadChart, BadText
 from loomhold.kinds import are_letters, is_int, is_number_below, is_tuple_below
 from loomhold.reaching import reached
 from loomhold.texts import line_of, lines_of, number_of, numbers_of, words_behind
+from loomhold.ways import first_word_to
 
 
 class Chart:
@@ -146,20 +147,7 @@ def useful_states(chart):
 
 def first_treadling(chart):
     """The first treadling, None if there is none."""
-    steps = steps_of(chart)
-    words = {0: ""}
-    queue = [0]
-    at = 0
-    while at < len(queue):
-        state = queue[at]
-        if state in chart.ends:
-            return words[state]
-        for letter, target in steps.get(state, []):
-            if target not in words:
-                words[target] = words[state] + letter
-                queue.append(target)
-        at += 1
-    return None
+    return first_word_to(steps_of(chart), 0, chart.ends)
 
 
 def many_treadlings(chart, length):

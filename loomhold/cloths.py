@@ -1,10 +1,12 @@
 """Cloths: their picks, their strands, and which strand lies over which."""
 
 from loomhold.errors import BadCloth, BadText, BadTreadling
-from loomhold.kinds import is_number_below
+from loomhold.kinds import first_uneven, is_number_below
 from loomhold.looms import is_treadling
 from loomhold.reaching import closed
 from loomhold.texts import lines_of
+
+SIGNS = "x-"
 
 
 class Cloth:
@@ -13,9 +15,9 @@ class Cloth:
     def __init__(self, picks):
         if not isinstance(picks, tuple) or picks == ():
             raise BadCloth("picks")
-        for number, pick in enumerate(picks):
-            if not is_pick(pick) or len(pick) != len(picks[0]):
-                raise BadCloth(number)
+        number = first_uneven(picks, SIGNS)
+        if number is not None:
+            raise BadCloth(number)
         self.picks = picks
         self.ends = len(picks[0])
 
@@ -32,15 +34,10 @@ class Cloth:
     def read(cls, text):
         """The cloth with a text."""
         lines = lines_of(text)
-        for number, line in enumerate(lines, start=1):
-            if not is_pick(line) or len(line) != len(lines[0]):
-                raise BadText(number)
+        number = first_uneven(lines, SIGNS)
+        if number is not None:
+            raise BadText(number + 1)
         return cls(tuple(lines))
-
-
-def is_pick(thing):
-    """Tell whether a value is a string of one or more signs x and -."""
-    return isinstance(thing, str) and thing != "" and thing.count("x") + thing.count("-") == len(thing)
 
 
 def woven(loom, treadling):

@@ -40,3 +40,14 @@ def is_string_over(thing, signs):
 def is_paper(thing, word, many):
     """Tell whether a value is a tuple of so many items that begins with a word."""
     return isinstance(thing, tuple) and len(thing) == many and thing[0] == word
+
+
+def first_uneven(rows, signs):
+    """The number of the first value that is no string of one or more of some signs, or not as long as the first one.
+
+    None if all are even.
+    """
+    for number, row in enumerate(rows):
+        if not is_string_over(row, signs) or row == "" or len(row) != len(rows[0]):
+            return number
+    return None

@@ -2,6 +2,7 @@
 
 from loomhold.cloths import is_over, is_strand, led_masks, strands
 from loomhold.kinds import is_ascending, is_paper
+from loomhold.reaching import way_to
 
 
 def does_hold(cloth):
@@ -46,23 +47,6 @@ def ring_of(cloth):
         missing = {strand: True for strand in missing if strand not in way}
         ring.extend(way)
     return tuple([*ring, *way_to(under, ring[-1], {row[0]: True})[:-1]])
-
-
-def way_to(under, start, goals):
-    """A shortest row of strands behind start, each under the one ahead of it, that ends with one of the goals."""
-    ahead = {start: None}
-    queue = [start]
-    at = 0
-    while queue[at] not in goals:
-        for strand in under[queue[at]]:
-            if strand not in ahead:
-                ahead[strand] = queue[at]
-                queue.append(strand)
-        at += 1
-    way = [queue[at]]
-    while ahead[way[-1]] is not None:
-        way.append(ahead[way[-1]])
-    return way[-2::-1]
 
 
 def holding_holds(cloth, thing):

@@ -25,3 +25,21 @@ def reached(starts, steps):
                 found[number] = True
                 queue.append(number)
     return found
+
+
+def way_to(steps, start, goals):
+    """A shortest row of what is come to from a start, without the start itself, that ends with one of the goals."""
+    ahead = {start: None}
+    queue = [start]
+    at = 0
+    while queue[at] not in goals:
+        here = queue[at]
+        for further in steps[here]:
+            if further not in ahead:
+                ahead[further] = here
+                queue.append(further)
+        at += 1
+    way = [queue[at]]
+    while ahead[way[-1]] is not None:
+        way.append(ahead[way[-1]])
+    return way[-2::-1]

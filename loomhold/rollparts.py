@@ -1,5 +1,6 @@
 """What the functions of rolls and beams share: all of these take tuples of items that are known to be rolls."""
 
+from loomhold.byletters import letters_of
 from loomhold.elements import element_of
 from loomhold.errors import BadPlace
 from loomhold.kinds import is_number_below
@@ -71,6 +72,12 @@ def treadling_of_item(item):
         return item
     # Without picks nothing is repeated, however often, and nothing within it is written out.
     return treadling_within(item[1]) * item[0] if picks_of_item(item) > 0 else ""
+
+
+def letters_within(roll):
+    """The ascending string of the letters of a roll's treadling."""
+    words = [item if isinstance(item, str) else letters_within(item[1]) for item in roll if picks_of_item(item) > 0]
+    return letters_of("".join(words))
 
 
 def check_stretch(picks, start, end):
