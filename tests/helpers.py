@@ -3,11 +3,15 @@
 import random
 
 from loomhold.beams import Beam
+from loomhold.callers import Caller
 from loomhold.charts import Chart
 from loomhold.cloths import Cloth
 from loomhold.elements import element_of
 from loomhold.errors import BadLoom
 from loomhold.looms import Loom
+from loomhold.pictures import Picture
+from loomhold.scripts import chart_of
+from loomhold.treadlers import Treadler
 
 PLAIN = Loom(2, (0, 1, 0, 1), ((0,), (1,)))
 DOUBLE = Loom(4, (0, 1, 2, 3), ((0,), (1,), (0, 1, 2), (0, 1, 3)))
@@ -36,6 +40,26 @@ FIXED_VALUES = (
     PLAIN, (PLAIN,), [PLAIN], Cloth(("x-", "-x")), (Cloth(("x",)), 0), Chart("a", 1, (), (0,)), element_of(PLAIN, "ab"),
     Beam(PLAIN, ("ab",)), ((("end", 0), PLAIN),), {"k": PLAIN}, ("holds", (PLAIN,)), ("holds", PLAIN), (PLAIN, ("a",)),
     ("alike", (PLAIN, [0, 0])), ("alike", ((0, 0), (0, True))), BadLoom("shafts"),
+    "all", "falls", "from", "ever", "grip", "slips", "within", "ring", "beyond", "up", "down", "plan", "refusal", "shown", "clash",
+    "forced", "d", "l", ".", "dl", "d\n", "colour", "unlike", ("all", ()), ("all", []), ("all", ((0, ""),)), ("all", ((False, ""),)),
+    ("all", (0, "")), ("all", ((0, []),)), ("falls", ""), ("falls", []), ("falls", {}), ("from", 0, ()), ("from", False, ()),
+    ("from", 10 ** 39, ()), ("from", 1, ((0, "", 0),)), ("from", 1, ((0, "", False),)), ("from", 1, [(0, "", 0)]),
+    ("from", 1, ({}, [])), ("ever", "a", "a", ""), ("ever", "", "", ""), ("ever", [], {}, PLAIN), ["ever", "a", "a", ""],
+    ("grip", 1, ()), ("grip", True, ()), ("grip", 0, ()), ("grip", 10 ** 39, ((0, "", 10 ** 38),)), ("slips", "", "a", "a", "", ""),
+    ("slips", "", "a", "a", "", []), ("slips", 1, 2, 3, 4, 5), ("within", 0, ()), ("within", True, ()), ("within", 10 ** 39, ()),
+    ("within", 1, ((0, 0, "up", 1),)), ("within", 0, ((0, [], "up", {}),)), ("ring", "", "a", "", 0, "up"),
+    ("ring", "", "b", "", True, "up"), ("ring", [], {}, (), PLAIN, None), ("ring", "", "a", "", 0, ["up"]),
+    ("beyond", "aaa", 0, "up", 0), ("beyond", "aaa", False, "up", 0), ("beyond", "aaa", 0, "up", False),
+    ("beyond", "aaa", 0, "up", 10 ** 39), ("beyond", [], {}, None, PLAIN), ("beyond", "aaa", 0, {}, 0), ("plan", ()), ("plan", []),
+    ("plan", (((0, 0), ("ab",), "a"),)), ("plan", (((0, 0), [], {}),)), ("plan", (((0, 10 ** 39), ("ab",), "a"),)), ("refusal", ()),
+    ("refusal", (((0, 0), ("a",), 0, ("",)),)), ("refusal", (((False, 0), ("a",), 0, ("",)),)), ("refusal", (((0, 0), {}, 0, []),)),
+    ("refusal", (((0, 0), ("a",), True, ("",)),)), ("shown", ("dd", "ll")), ("shown", ["dd", "ll"]), ("shown", ("dd", 1)),
+    ("shown", {}), ("clash", ((("end", 0), "d"),)), ("clash", ()), ("clash", (({}, "d"),)), ("clash", ((("end", False), "d"),)),
+    ("forced", ((("end", 0), "d"), (("end", 0), "l"))), ("forced", ()), ("forced", ((("end", 0), []),)), ("forced", PLAIN),
+    ("dd", "ll"), ["dd", "ll"], ("dd", "ll", ""), ("dd", ["l", "l"]), ("dd", PLAIN), (("colour", ("end", 0), "d"),),
+    (("colour", ("end", False), "d"),), (("alike", ("end", 0), ("end", 1)),), (("alike", ["end", 0], ("end", 1)),), ((0, ""), (0, "a")),
+    ("holds", Cloth(("x-", "-x"))), ("holds", Cloth(("x",))), ("holds", Picture(("dl", "ld"))), Picture(("dl", "ld")),
+    Picture((".",)), Treadler(PLAIN, ("ab",), 0, 1), Caller(PLAIN, ("a",), 0, 0), (Caller(PLAIN, ("a",), 0, 0),),
 )
 
 
@@ -164,6 +188,61 @@ def lets(chart, word):
 def language(chart, letters, most):
     """The set of the treadlings of a chart with at most so many letters."""
     return {word for word in words_to(letters, most) if lets(chart, word)}
+
+
+def treadlings_to(chart, most):
+    """All treadlings of a chart with at most so many letters, in order, move by move."""
+    found = []
+    row = [("", 0)]
+    for _ in range(most + 1):
+        found.extend(word for word, state in row if state in chart.ends)
+        row = [(word + sign, target) for word, state in row for here, sign, target in chart.moves if here == state]
+    return found
+
+
+def useful_told(chart):
+    """The set of the useful states, told by walking from each state."""
+    def walked(start):
+        found = {start}
+        while True:
+            more = {target for state, _, target in chart.moves if state in found} - found
+            if not more:
+                return found
+            found |= more
+    return {state for state in walked(0) if walked(state) & set(chart.ends)}
+
+
+def fits(loom, chart):
+    """Tell whether each letter of a chart's moves is one of the loom."""
+    return all(letter in loom.letters for _, letter, _ in chart.moves)
+
+
+def behind_ab(chart):
+    """The chart of the treadlings of a chart with a and b ahead of each."""
+    moves = tuple((state + 2, letter, target + 2) for state, letter, target in chart.moves)
+    ends = tuple(state + 2 for state in chart.ends)
+    return Chart("".join(sorted({*chart.letters, "a", "b"})), chart.states + 2, ((0, "a", 1), (1, "b", 2), *moves), ends)
+
+
+def fitting(rng, states=3, letters=2, shafts=3):
+    """Some loom and some chart of it; on about half of these looms a and b together hold."""
+    loom = random_loom(rng, shafts, 4, letters)
+    if rng.random() < 0.6:
+        many = rng.randrange(2, letters + 1)
+        lifts = [(0,), (1,), *[tuple(s for s in (0, 1) if rng.random() < 0.6) for _ in range(many - 2)]]
+        loom = Loom(rng.choice([2, 3]), rng.choice([(0, 1), (0, 1, 0), (1, 1, 0)]), tuple(lifts))
+    chart = random_chart(rng, states, loom.letters)
+    way = rng.random()
+    if len(loom.letters) == 1 or way < 0.35:
+        return loom, chart
+    if way < 0.6:
+        return loom, behind_ab(chart)
+    if way < 0.8:
+        # Without rings: from each state to later ones alone.
+        moves = tuple(move for move in chart.moves if move[2] > move[0])
+        return loom, Chart(chart.letters, chart.states, moves, chart.ends or (chart.states - 1,))
+    # Rings along which both letters stand.
+    return loom, chart_of(rng.choice(["(ab)*", "(aab)*", "a(bba)*", "([ab|ba])*", "([abb|baa])*b", "(ab[a|])*", "b(a[b|ab])*"]), "ab")
 
 
 def raised(case, error, call, *things, **more):

@@ -23,7 +23,32 @@ FUNCTIONS = {
     "rolls": {"is_roll": "loom thing", "picks_of": "loom roll", "treadle_at": "loom roll place", "stretch": "loom roll start end",
               "element_of_roll": "loom roll", "treadling_of": "loom roll * most", "first_pick_apart": "loom one other",
               "text_of_roll": "loom roll", "roll_read": "loom text"},
+    "holding": {"spots_met": "loom chart", "do_all_hold": "loom chart", "first_fall": "loom chart", "many_falls": "loom chart length",
+                "falling_chart": "loom chart"},
+    "holdpapers": {"judge_chart": "loom chart", "chart_holds": "loom chart thing", "lasts_from": "loom chart", "last_fall": "loom chart",
+                   "judge_lasting": "loom chart", "lasting_holds": "loom chart thing"},
+    "grips": {"grip": "loom chart", "first_slip": "loom chart length", "judge_grip": "loom chart", "grip_holds": "loom chart thing"},
+    "floats": {"side_at": "loom letter shaft", "greatest_float": "loom chart", "floating_treadling": "loom chart",
+               "first_longest": "loom roll", "weft_float": "loom letter", "greatest_weft_float": "loom chart",
+               "weft_float_of_roll": "loom roll", "keeps_within": "loom chart number"},
+    "floatpapers": {"judge_floats": "loom chart", "floats_hold": "loom chart thing", "judge_within": "loom chart number",
+                    "within_holds": "loom chart number thing"},
+    "playpapers": {"judge_play": "loom wishes sight number", "play_holds": "loom wishes sight number thing",
+                   "can_keep": "loom wishes sight number", "least_kept": "loom wishes sight most", "runs_behind": "loom runs letter"},
+    "treadlers": {"trodden_for": "loom wishes sight number calls"},
+    "pictures": {"is_whole": "picture", "are_stripes": "picture thing", "are_terms": "picture thing", "face": "cloth stripes",
+                 "back": "cloth stripes", "does_show": "picture cloth stripes", "first_unshown": "picture stripes",
+                 "do_keep": "picture stripes terms"},
+    "clauses": {"does_make": "picture one other * terms", "judge_stripes": "picture * terms", "stripes_hold": "picture thing * terms",
+                "forced": "picture * terms", "why_forced": "picture strand * terms", "forced_holds": "picture thing * terms"},
+    "stripes": {"first_stripes": "picture * terms", "all_stripes": "picture * terms", "many_stripes": "picture * terms most",
+                "back_by": "picture stripes", "stripes_by": "one other"},
+    "showing": {"free_crossings": "picture stripes", "cloth_by": "picture stripes", "can_hold": "picture stripes",
+                "judge_showing": "picture stripes", "showing_holds": "picture stripes thing"},
 }
+DEFAULTS = {"treadling_of": {"most": 2000}, "does_make": {"terms": ()}, "judge_stripes": {"terms": ()}, "stripes_hold": {"terms": ()},
+            "forced": {"terms": ()}, "why_forced": {"terms": ()}, "forced_holds": {"terms": ()}, "first_stripes": {"terms": ()},
+            "all_stripes": {"terms": ()}, "many_stripes": {"terms": (), "most": 1000}}
 CLASSES = {
     ("looms", "Loom"): {"__init__": "self shafts threading lifts", "__len__": "self", "__eq__": "self other", "__str__": "self",
                         "read": "cls text", "lift_of": "self letter", "with_lift": "self letter lift", "threaded": "self threading"},
@@ -33,9 +58,14 @@ CLASSES = {
     ("elements", "Element"): {"__add__": "self other", "__eq__": "self other", "times": "self many", "cut_off": "self top"},
     ("beams", "Beam"): {"__init__": "self loom roll", "change": "self start end roll", "undo": "self",
                         "element_from": "self start end"},
+    ("treadlers", "Treadler"): {"__init__": "self loom wishes sight number", "__len__": "self", "hear": "self call", "undo": "self"},
+    ("callers", "Caller"): {"__init__": "self loom wishes sight number", "__len__": "self", "answer": "self letter", "undo": "self"},
+    ("pictures", "Picture"): {"__init__": "self rows", "__len__": "self", "__eq__": "self other", "__str__": "self", "read": "cls text"},
 }
 PROPERTIES = {("elements", "Element"): ["holds", "longest_float"],
-              ("beams", "Beam"): ["roll_now", "element_now", "holds_now", "picks_now"]}
+              ("beams", "Beam"): ["roll_now", "element_now", "holds_now", "picks_now"],
+              ("treadlers", "Treadler"): ["calls_made", "trodden", "runs_now"],
+              ("callers", "Caller"): ["calls_made", "trodden", "runs_now", "is_broken"]}
 
 
 def parameters(function):
@@ -57,6 +87,9 @@ class InterfaceTest(unittest.TestCase):
                 function = getattr(module, name)
                 self.assertEqual(function.__module__, module.__name__)
                 self.assertEqual(parameters(function), told, name)
+                row = inspect.signature(function).parameters.values()
+                defaults = {parameter.name: parameter.default for parameter in row if parameter.default is not parameter.empty}
+                self.assertEqual(defaults, DEFAULTS.get(name, {}), name)
 
     def test_classes(self):
         for (stem, name), row in CLASSES.items():
