@@ -17,7 +17,7 @@ class Caller:
         self.number = number
         self._answers = {(runs, calls): answers for runs, calls, _, answers in rows}
         noughts = (0,) * len(loom.used)
-        self._calls = list(min([calls for runs, calls, _, _ in rows if runs == noughts]))
+        self._calls = list([calls for runs, calls, _, _ in rows if runs == noughts][0])
         self._trodden = []
         self._runs = [noughts]
 

@@ -50,7 +50,7 @@ def joined_told(one, other):
 def told_times(one, many):
     """What is told of so many stretches, one behind the other."""
     picks, begin, end, longest, start = one
-    if many == 0 or picks == 0:
+    if many == 0:
         return NO_PICKS
     if abs(begin) == picks:
         return (picks * many, begin * many, end * many, longest * many, 0)

@@ -225,12 +225,12 @@ def is_refusal(play, row):
 
 def do_answers_lead(play, numbers, stand, answers):
     """Tell whether each answer of a stand is as a refusal has it."""
-    return all([is_answer(play, numbers, stand, runs, answer) for runs, answer in zip(runs_led(play, stand), answers)])
+    return all([is_answer(numbers, stand, runs, answer) for runs, answer in zip(runs_led(play, stand), answers)])
 
 
-def is_answer(play, numbers, stand, runs, answer):
+def is_answer(numbers, stand, runs, answer):
     """Tell whether an answer is "" for a letter that breaks, otherwise a wish on to a stand with a lesser number."""
     if runs is None:
         return answer == ""
     further = stand_behind(stand, runs, answer)
-    return answer in play.wishes and further in numbers and numbers[further] < numbers[stand]
+    return further in numbers and numbers[further] < numbers[stand]

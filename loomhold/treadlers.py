@@ -40,7 +40,7 @@ class Treadler:
 
     def hear(self, call):
         """Take a call; the letter that is trodden now, "" as long as not more calls than the sight have been made."""
-        if not isinstance(call, str) or call not in self.wishes:
+        if call not in self.wishes:
             raise BadCall(call)
         self._calls.append(call)
         if len(self._calls) <= self.sight:

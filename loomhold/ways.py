@@ -50,7 +50,7 @@ def numbers_left(ways, goals):
     at = 0
     while at < len(queue):
         here = queue[at]
-        numbers[here] = max([0, *[numbers[key] + 1 for _, key in ways[here] if key in live]])
+        numbers[here] = max([0, *[numbers[key] + 1 for _, key in ways[here]]])
         for key in ahead.get(here, []):
             untold[key] = untold[key] - 1
             if untold[key] == 0:

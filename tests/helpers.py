@@ -126,6 +126,36 @@ def changed_values(seed, value, many):
     return out
 
 
+def other_leaves(value):
+    """Values in the place of one that is no tuple."""
+    if isinstance(value, int):
+        return [value + 1, value - 1, -value, bool(value), str(value), None, value + 10 ** 39, (value,), -2]
+    if isinstance(value, str):
+        return [value + "a", value + value, value[1:], value[::-1], list(value), None, value.upper(), 0, "", (value,), value + "\n"]
+    return [None, (value,), [value], 0]
+
+
+def all_changed(value):
+    """Yield all values that come from a value by one change of one part, at any depth."""
+    if not isinstance(value, tuple):
+        yield from other_leaves(value)
+        return
+    yield from [list(value), value[::-1], (*value, *value), None, (), (value,), {0: value}]
+    for at, part in enumerate(value):
+        yield value[:at] + value[at + 1:]
+        yield value[:at + 1] + value[at:]
+        yield value[:at] + value[at + 1:at + 2] + value[at:at + 1] + value[at + 2:]
+        for other in all_changed(part):
+            yield (*value[:at], other, *value[at + 1:])
+
+
+def with_another_row(rows):
+    """Yield rows with one more: behind one of them this one with one part otherwise, also of another kind."""
+    for at, row in enumerate(rows):
+        for other in all_changed(row):
+            yield (*rows[:at + 1], other, *rows[at + 1:])
+
+
 def is_true_int(thing):
     """Tell whether a value is an integer, no bool."""
     return type(thing) is int

@@ -7,7 +7,7 @@ import unittest
 from loomhold.clauses import does_make, forced, forced_holds, judge_stripes, stripes_hold, why_forced
 from loomhold.errors import Clash
 from loomhold.pictures import Picture, are_terms
-from tests.helpers import changed_values, raised, some_values
+from tests.helpers import all_changed, changed_values, raised, some_values, with_another_row
 from tests.test_pictures import (
     CHECK, E0, E1, OTHER, P0, P1, are_right_stripes, colour, every_stripes, is_right_strand, keeps_told, picture_shown, random_picture,
     random_terms, strands_of, unshown_told)
@@ -255,7 +255,8 @@ class PapersTest(unittest.TestCase):
             if paper[0] == "shown":
                 papers.extend(why_forced(picture, strand, terms=terms) for strand in strands_of(picture)[:2])
             for made in papers:
-                for value in changed_values(seed, made, 25):
+                more = [("clash", rows) for rows in with_another_row(made[1])] if made is not None and made[0] == "clash" else []
+                for value in [*changed_values(seed, made, 25), *all_changed(made), *more]:
                     self.assertIs(stripes_hold(picture, value, terms=terms), is_right_stripes_paper(picture, terms, value), value)
                     self.assertIs(forced_holds(picture, value, terms=terms), is_right_forced_paper(picture, terms, value), value)
 

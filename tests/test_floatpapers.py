@@ -10,7 +10,8 @@ from loomhold.floats import greatest_float
 from loomhold.looms import Loom
 from loomhold.scripts import chart_of
 from tests.helpers import (
-    DOUBLE, LOOSE, PLAIN, changed_values, fitting, is_sorted, is_true_int, lets, some_values, treadlings_to, useful_told, words_to)
+    DOUBLE, LOOSE, PLAIN, all_changed, changed_values, fitting, is_sorted, is_true_int, lets, some_values, treadlings_to, useful_told,
+    with_another_row, words_to)
 from tests.test_floats import ALL, STEPS, float_of, lift_told, told_greatest
 from tests.test_holding import NONE, ODD, ONCE
 from tests.test_holdpapers import led
@@ -180,6 +181,12 @@ class FloatsPaperTest(unittest.TestCase):
                 thing = ("within", 1, (*rows[:at], other, *rows[at + 1:]))
                 self.assertIs(floats_hold(PLAIN, STEPS, thing), False, thing)
                 self.assertIs(within_holds(PLAIN, STEPS, 1, thing), False, thing)
+            # As many rows as there should be, but one state, shaft and side twice, and another one not at all.
+            for other in rows[:at] + rows[at + 1:]:
+                for run in range(5):
+                    thing = ("within", 9, tuple(sorted([*rows[:at], *rows[at + 1:], (*other[:3], run)])))
+                    self.assertIs(floats_hold(PLAIN, STEPS, thing), False, thing)
+                    self.assertIs(within_holds(PLAIN, STEPS, 9, thing), False, thing)
         twice = ("within", 3, tuple(sorted([*rows, (0, 0, "down", 2)])))
         wrong = [twice, ("within", 1, rows[::-1]), ("within", 1, list(rows)), ["within", 1, rows], ("within", True, rows), ("within", "1", rows),
                  ("within", 1), ("within", 1, rows, ()), ("with", 1, rows), ("within", rows, 1), rows, None,
@@ -221,10 +228,13 @@ class FloatsPaperTest(unittest.TestCase):
                 self.assertIs(within_holds(loom, chart, 2, value), is_right_within_paper(loom, chart, 2, value), value)
         for seed in range(60):
             loom, chart = fitting(rng, 2, 2)
-            for value in changed_values(seed, judge_floats(loom, chart), 30):
+            paper = judge_floats(loom, chart)
+            more = [(*paper[:2], rows) for rows in with_another_row(paper[2])] if paper[0] == "within" else []
+            for value in [*changed_values(seed, paper, 30), *all_changed(paper), *more]:
                 self.assertIs(floats_hold(loom, chart, value), is_right_floats_paper(loom, chart, value), value)
             for number in (0, 1, 3):
-                for value in changed_values(seed, judge_within(loom, chart, number), 20):
+                paper = judge_within(loom, chart, number)
+                for value in [*changed_values(seed, paper, 20), *all_changed(paper)]:
                     self.assertIs(within_holds(loom, chart, number, value), is_right_within_paper(loom, chart, number, value), value)
 
     def test_sizes_at_the_limits(self):

@@ -8,7 +8,7 @@ from loomhold.charts import Chart
 from loomhold.grips import first_slip, grip, grip_holds, judge_grip
 from loomhold.looms import Loom
 from loomhold.scripts import chart_of
-from tests.helpers import LOOSE, PLAIN, changed_values, fitting, is_true_int, some_values, useful_told, words_to
+from tests.helpers import LOOSE, PLAIN, all_changed, changed_values, fitting, is_true_int, some_values, useful_told, with_another_row, words_to
 from tests.test_holding import ANY, NONE, ODD, ONCE, TURNS, does_fall
 from tests.test_holdpapers import all_spots, are_right_rows, led, numbered
 
@@ -210,7 +210,9 @@ class GripTest(unittest.TestCase):
                 self.assertIs(grip_holds(loom, chart, value), is_right_grip_paper(loom, chart, value), value)
         for seed in range(80):
             loom, chart = fitting(rng, 3, 2)
-            for value in changed_values(seed, judge_grip(loom, chart), 40):
+            paper = judge_grip(loom, chart)
+            more = [(*paper[:2], rows) for rows in with_another_row(paper[2])] if paper[0] == "grip" else []
+            for value in [*changed_values(seed, paper, 40), *all_changed(paper), *more]:
                 self.assertIs(grip_holds(loom, chart, value), is_right_grip_paper(loom, chart, value), value)
 
     def test_sizes_at_the_limits(self):

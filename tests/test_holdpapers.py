@@ -10,7 +10,8 @@ from loomhold.holdpapers import chart_holds, judge_chart, judge_lasting, last_fa
 from loomhold.looms import Loom
 from loomhold.scripts import chart_of
 from tests.helpers import (
-    LOOSE, PLAIN, changed_values, fitting, is_sorted, is_true_int, lets, some_values, treadlings_to, useful_told, words_to)
+    LOOSE, PLAIN, all_changed, changed_values, fitting, is_sorted, is_true_int, lets, some_values, treadlings_to, useful_told,
+    with_another_row, words_to)
 from tests.test_holding import ANY, NONE, ODD, ONCE, TURNS, does_fall
 
 
@@ -225,7 +226,8 @@ class ChartPaperTest(unittest.TestCase):
         for seed in range(60):
             loom, chart = fitting(rng, 3, 3)
             for paper in (judge_chart(loom, chart), ("all", spots_met(loom, chart))):
-                for value in changed_values(seed, paper, 30):
+                more = [("all", rows) for rows in with_another_row(paper[1])] if paper[0] == "all" else []
+                for value in [*changed_values(seed, paper, 30), *all_changed(paper), *more]:
                     self.assertIs(chart_holds(loom, chart, value), is_right_chart_paper(loom, chart, value), value)
 
 
@@ -408,7 +410,9 @@ class LastingTest(unittest.TestCase):
                 self.assertIs(lasting_holds(loom, chart, value), is_right_lasting_paper(loom, chart, value), value)
         for seed in range(80):
             loom, chart = fitting(rng, 3, 2)
-            for value in changed_values(seed, judge_lasting(loom, chart), 40):
+            paper = judge_lasting(loom, chart)
+            more = [(*paper[:2], rows) for rows in with_another_row(paper[2])] if paper[0] == "from" else []
+            for value in [*changed_values(seed, paper, 40), *all_changed(paper), *more]:
                 self.assertIs(lasting_holds(loom, chart, value), is_right_lasting_paper(loom, chart, value), value)
 
     def test_sizes_at_the_limits(self):

@@ -8,7 +8,7 @@ from loomhold.cloths import Cloth
 from loomhold.errors import BadPicture, BadText, OtherSize
 from loomhold.pictures import (
     Picture, are_stripes, are_terms, back, do_keep, does_show, face, first_unshown, is_whole)
-from tests.helpers import FIXED_VALUES, changed_values, is_sorted, is_true_int, raised, random_cloth, some_values
+from tests.helpers import FIXED_VALUES, all_changed, changed_values, is_sorted, is_true_int, raised, random_cloth, some_values, with_another_row
 
 CHECK = Picture(("dl", "ld"))
 E0, E1, P0, P1 = ("end", 0), ("end", 1), ("pick", 0), ("pick", 1)
@@ -198,7 +198,7 @@ class StripesTest(unittest.TestCase):
             picture = Picture(("dl.", "l.d"))
             terms = random_terms(rng, picture, 6)
             self.assertIs(are_terms(picture, terms), True)
-            for value in changed_values(seed, terms, 30):
+            for value in [*changed_values(seed, terms, 30), *all_changed(terms), *with_another_row(terms)]:
                 self.assertIs(are_terms(picture, value), are_right_terms(picture, value), value)
 
     def test_faces_and_backs(self):

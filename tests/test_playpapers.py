@@ -8,7 +8,7 @@ import unittest
 from loomhold.errors import BadWishes
 from loomhold.looms import Loom
 from loomhold.playpapers import can_keep, judge_play, least_kept, play_holds, runs_behind
-from tests.helpers import PLAIN, SPARE, changed_values, is_sorted, is_true_int, raised, random_loom, some_values
+from tests.helpers import PLAIN, SPARE, all_changed, changed_values, is_sorted, is_true_int, raised, random_loom, some_values, with_another_row
 from tests.test_floats import lift_told
 
 TWILL = Loom(3, (0, 1, 2), ((0,), (1,), (2,)))
@@ -338,14 +338,34 @@ class PlayTest(unittest.TestCase):
                  ("refusal", (rows[0], ((1, -1), ("ab",), 0, ("", "a")))), ("refusal", (*rows, ((2, -1), ("a",), 0, ("",))))]
         for thing in wrong:
             self.assertIs(play_holds(PLAIN, ("a", "ab"), 0, 1, thing), False, thing)
+        # At most one row stands there for each stand, whatever its number is.
+        for more in (((1, -1), ("a",), 1, ("",)), ((1, -1), ("a",), 0, (None,)), ((1, -1), ("a",), 0, ([],)), ((1, -1), ("a",), 0, ("a",))):
+            thing = ("refusal", (((0, 0), ("a",), 9, ("a",)), rows[1], more))
+            self.assertIs(play_holds(PLAIN, ("a", "ab"), 0, 1, thing), False, thing)
+        self.assertIs(play_holds(PLAIN, ("a", "ab"), 0, 1, ("refusal", (((0, 0), ("a",), 9, ("a",)), rows[1]))), True)
         # What holds for one number or one sight need not for others.
         self.assertIs(play_holds(PLAIN, ("ab",), 1, 1, ("plan", PLAN)), False)
         self.assertIs(play_holds(PLAIN, ("ab",), 0, 0, ("plan", PLAN)), False)
         self.assertIs(play_holds(PLAIN, ("ab",), 0, 3, ("plan", PLAN)), True)
         self.assertIs(play_holds(PLAIN, ("a", "ab"), 0, 2, ("refusal", rows)), False)
 
+    def test_each_first_stand_has_a_cell(self):
+        rng = random.Random(271)
+        found = 0
+        for _ in range(300):
+            loom, wishes, sight, number = random_play(rng)
+            word, rows = judge_play(loom, wishes, sight, number)
+            if word == "plan" and len(wishes) > 1:
+                found += 1
+                noughts = (0,) * len(loom.used)
+                for at, row in enumerate(rows):
+                    told = play_holds(loom, wishes, sight, number, ("plan", rows[:at] + rows[at + 1:]))
+                    self.assertEqual(told, is_right_play_paper(loom, wishes, sight, number, ("plan", rows[:at] + rows[at + 1:])))
+                    self.assertFalse(told and row[0] == noughts)
+        self.assertGreater(found, 3)
+
     def test_bad_wishes(self):
-        values = [(), ["ab"], ("",), ("ba",), ("aa",), ("c",), ("ab", "a"), ("a", "a"), ("a", ""), (["a"],), (None,), "ab", ("a", 1), ("A",),
+        values = [("ac",), ("a", "bc"), ("a", "c"), ("b", "ac"), (), ["ab"], ("",), ("ba",), ("aa",), ("c",), ("ab", "a"), ("a", "a"), ("a", ""), (["a"],), (None,), "ab", ("a", 1), ("A",),
                   (("a",),), ("a\n",), None, {}, ("a", "b", "ab")]
         for value in [*values, *some_values(267, 300)]:
             told = are_right_wishes(PLAIN, value)
@@ -370,7 +390,8 @@ class PlayTest(unittest.TestCase):
             paper = judge_play(loom, wishes, sight, number)
             if len(paper[1]) > 60:
                 continue
-            for value in changed_values(seed, paper, 40):
+            more = [*all_changed(paper), *[(paper[0], rows) for rows in with_another_row(paper[1])]] if len(paper[1]) < 7 else []
+            for value in [*changed_values(seed, paper, 40), *more]:
                 told = is_right_play_paper(loom, wishes, sight, number, value)
                 self.assertIs(play_holds(loom, wishes, sight, number, value), told, value)
 

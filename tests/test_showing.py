@@ -10,7 +10,7 @@ from loomhold.errors import NotShown
 from loomhold.levels import does_hold
 from loomhold.pictures import Picture, does_show
 from loomhold.showing import can_hold, cloth_by, free_crossings, judge_showing, showing_holds
-from tests.helpers import changed_values, is_sorted, raised, some_values
+from tests.helpers import all_changed, changed_values, is_sorted, raised, some_values, with_another_row
 from tests.test_pictures import (
     CHECK, E0, E1, P0, P1, colour, every_cloth, every_stripes, is_right_strand, picture_shown, random_picture, strands_of, unshown_told)
 
@@ -155,7 +155,9 @@ class ShowingTest(unittest.TestCase):
         for seed in range(80):
             picture, stripes = picture_shown(rng, 4, 4, 0.9)
             if picture.ends > 1 and len(picture) > 1:
-                for value in changed_values(seed, judge_showing(picture, stripes), 30):
+                paper = judge_showing(picture, stripes)
+                more = [("apart", rows) for rows in with_another_row(paper[1])] if paper[0] == "apart" else []
+                for value in [*changed_values(seed, paper, 30), *all_changed(paper), *more]:
                     self.assertIs(showing_holds(picture, stripes, value), is_right_showing_paper(picture, stripes, value), value)
 
     def test_sizes_at_the_limits(self):
