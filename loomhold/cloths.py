@@ -68,6 +68,13 @@ def is_strand(cloth, thing):
     return thing[0] == "pick" and is_number_below(thing[1], len(cloth))
 
 
+def is_crossing(cloth, thing):
+    """Tell whether any value is a crossing, a pair (number of a pick, number of an end), of the cloth."""
+    if not isinstance(thing, tuple) or len(thing) != 2:
+        return False
+    return is_number_below(thing[0], len(cloth)) and is_number_below(thing[1], cloth.ends)
+
+
 def is_over(cloth, one, other):
     """Tell whether one strand lies over another one."""
     if one[0] == other[0]:

@@ -4,7 +4,7 @@ from loomhold.charts import steps_of
 from loomhold.floatruns import longest_in_roll
 from loomhold.rollparts import letters_within, picks_within
 from loomhold.rolls import check_roll
-from loomhold.spots import check_moves, useful_steps
+from loomhold.spots import check_moves, useful_letters, useful_steps
 from loomhold.stretches import run_of
 from loomhold.ways import first_word_to, numbers_left
 
@@ -112,9 +112,7 @@ def weft_float(loom, letter):
 def greatest_weft_float(loom, chart):
     """The greatest weft float of the letters of useful moves, 0 without any."""
     check_moves(loom, chart)
-    steps = useful_steps(chart)
-    letters = sorted({letter for state in steps for letter, _ in steps[state]})
-    return max([0, *[weft_float(loom, letter) for letter in letters]])
+    return max([0, *[weft_float(loom, letter) for letter in useful_letters(chart)]])
 
 
 def weft_float_of_roll(loom, roll):

@@ -1,9 +1,10 @@
 """Which treadlings of a chart fall on a loom."""
 
 from loomhold.chartpapers import least_chart
-from loomhold.charts import first_treadling, many_treadlings
+from loomhold.charts import many_treadlings
 from loomhold.exploring import explored
 from loomhold.spots import check_moves, fallen_spots, first_spots, spot_ways
+from loomhold.ways import first_word_to
 
 
 def spots_met(loom, chart):
@@ -19,7 +20,9 @@ def do_all_hold(loom, chart):
 
 def first_fall(loom, chart):
     """The first treadling that falls, None if there is none."""
-    return first_treadling(falling_chart(loom, chart))
+    check_moves(loom, chart)
+    ways = spot_ways(chart, first_spots(chart))
+    return first_word_to(ways, (0, ""), fallen_spots(loom, chart, ways))
 
 
 def many_falls(loom, chart, length):

@@ -193,12 +193,29 @@ def is_cell(play, thing):
     return are_within(runs_behind(play.loom, thing[0], thing[2]), play.number)
 
 
+def is_first(play, stand):
+    """Tell whether a play may begin with a stand."""
+    return stand[0] == (0,) * len(play.loom.used)
+
+
+def are_all_first(play, stands):
+    """Tell whether all stands with which a play may begin are among those of a dict, each of which is one."""
+    many = len([stand for stand in stands if is_first(play, stand)])
+    # They are counted, as far as need be: by a great sight there would be too many to be written out.
+    asked = 1
+    for _ in range(play.sight + 1):
+        asked = asked * len(play.wishes)
+        if asked > many:
+            return False
+    return True
+
+
 def is_plan(play, row):
     """Tell whether any tuple is the cells of a plan."""
     if not all([is_cell(play, cell) for cell in row]) or not is_ascending(row):
         return False
     letters = {(runs, calls): letter for runs, calls, letter in row}
-    if len(letters) != len(row) or not all([stand in letters for stand in first_stands(play)]):
+    if len(letters) != len(row) or not are_all_first(play, letters):
         return False
     led = [(stand, runs_behind(play.loom, stand[0], letters[stand])) for stand in letters]
     return all([further in letters for stand, runs in led for further in stands_behind(play, stand, runs)])
@@ -218,7 +235,7 @@ def is_refusal(play, row):
     if not all([is_row(play, item) for item in row]) or not is_ascending(row):
         return False
     numbers = {(runs, calls): number for runs, calls, number, _ in row}
-    if len(numbers) != len(row) or not any([stand in numbers for stand in first_stands(play)]):
+    if len(numbers) != len(row) or not any([is_first(play, stand) for stand in numbers]):
         return False
     return all([do_answers_lead(play, numbers, (runs, calls), answers) for runs, calls, _, answers in row])
 

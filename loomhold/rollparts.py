@@ -74,6 +74,12 @@ def treadling_of_item(item):
     return treadling_within(item[1]) * item[0] if picks_of_item(item) > 0 else ""
 
 
+def full_roll(roll):
+    """The roll without all items, at any depth, that have no picks."""
+    full = [item for item in roll if picks_of_item(item) > 0]
+    return tuple([item if isinstance(item, str) else (item[0], full_roll(item[1])) for item in full])
+
+
 def letters_within(roll):
     """The ascending string of the letters of a roll's treadling."""
     words = [item if isinstance(item, str) else letters_within(item[1]) for item in roll if picks_of_item(item) > 0]

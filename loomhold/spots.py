@@ -22,6 +22,12 @@ def useful_steps(chart):
     return steps
 
 
+def useful_letters(chart):
+    """The ascending list of the letters of a chart's useful moves."""
+    steps = useful_steps(chart)
+    return sorted({letter for state in steps for letter, _ in steps[state]})
+
+
 def first_spots(chart):
     """The list of the first spot; the empty one if the state 0 is not useful."""
     return [(0, "")] if 0 in useful_states(chart) else []

@@ -6,8 +6,11 @@ from loomhold.beams import Beam
 from loomhold.callers import Caller
 from loomhold.charts import Chart
 from loomhold.cloths import Cloth
+from loomhold.console import Console
 from loomhold.elements import element_of
 from loomhold.errors import BadLoom
+from loomhold.growing import Growth
+from loomhold.houses import House
 from loomhold.looms import Loom
 from loomhold.pictures import Picture
 from loomhold.scripts import chart_of
@@ -60,6 +63,30 @@ FIXED_VALUES = (
     (("colour", ("end", False), "d"),), (("alike", ("end", 0), ("end", 1)),), (("alike", ["end", 0], ("end", 1)),), ((0, ""), (0, "a")),
     ("holds", Cloth(("x-", "-x"))), ("holds", Cloth(("x",))), ("holds", Picture(("dl", "ld"))), Picture(("dl", "ld")),
     Picture((".",)), Treadler(PLAIN, ("ab",), 0, 1), Caller(PLAIN, ("a",), 0, 0), (Caller(PLAIN, ("a",), 0, 0),),
+    ("", 0, 0), ("", 0, False), ("e", 1, 1), ("epsw", -20, 10 ** 39), ("we", 0, 0), ["e", 0, 0], ("e", 0), ("e", "0", 0), ("ee", 0, 0),
+    (None, 0, 0), ("", "e", "p", "ep"), ("", "s"), ("s",), ("", "ew"), ["", "s"], ("", "s", []), ("", True), ("s", ""), ("", "", "s"),
+    ("same", ("", 0, 0)), ("same", ("", 0, True)), ("same", ["", 0, 0]), ("same", None), ("unlike", ("-",), ("x",)),
+    ("unlike", ("--", "-x"), ("-",)), ("unlike", ("end", 0), ("end", 1)), ("unlike", ("end", 0), ("pick", 0)),
+    ("unlike", ("end", 0), ("pick", False)), ("unlike", ["end", 0], {}), ("alike", (("", 0, 0),)), ("alike", (("", 0, 0), ("e", 0, 0))),
+    ("alike", [("", 0, 0)]), ("alike", (("", 0, False), ("", 0, 1))), ("alike", ((0, "", 0),)), ("kept", 0, 1), ("kept", 2, 2),
+    ("kept", 4, 2), ("kept", False, 1), ("kept", 0, True), ("kept", 0, 0), ("kept", -1, 2), ("kept", 0, 10 ** 39), ("kept", 1999, 1),
+    ("kept", 1999, 2), ("kept", "0", {}), ("broken", 0), ("broken", True), ("broken", 10 ** 30), ("broken", 10 ** 30 + 1), ("broken", -1),
+    ("broken", [0]), ["broken", 0], ("broken", 0, 0), ((0, 0),), ((0, 0), (1, 1)), ((1, 1), (0, 0)), ((0, False),), ((0, 10 ** 39),),
+    [(0, 0)], ((0, 0, 0),), ((0,),), ((0, []),), ("mend", (), ()), ("mend", ((0, 0), (1, 1)), ((("end", 0),), (("end", 1),))),
+    ("mend", [], ()), ("mend", (), ((),)), ("mend", ((0, 0),), ({},)), ("mend", ((0, 0),), (("end", 0),)), (("a", 0),), (("b", 1),),
+    (("a", 0), ("b", 1)), (("b", 1), ("a", 0)), (("a", False),), (("a", "0"),), (("ab", 0),), [("a", 0)], ((["a"], 0),), (("a", 0, 0),),
+    ("pegs", (), ()), ("pegs", (("b", 1),), (((), "ab"),)), ("pegs", (("b", True),), (((), "ab"),)), ("pegs", [], ()),
+    ("pegs", (("b", 1),), (((), ("a", "a", "")),)), ("pegs", (("a", 0),), {}), ("none", ()), ("none", (((), ""),)), ("none", (((), "a"),)),
+    ("none", (((), ("a", "a", "")),)), ("none", (([], "a"),)), ("none", (((), {}),)), ("none", {}), ("a", "a", ""), ["a", "a", ""],
+    ("a", "a", None), ("", "", ""), ("ab", "ab", ""), (PLAIN, "ab"), (PLAIN, ""), (PLAIN, ["a"]), (PLAIN, "abc"), [PLAIN, "ab"],
+    ("ab", PLAIN), ("unlike", (0,), (0,)), ("unlike", (0, 1), (0, 1)), ("unlike", (0, True), (0,)), ("unlike", [0], {}),
+    ("unlike", (0, 1), (0,)), ("a", "ab", ""), ("ab", "ba"), ["a"], ("a", ["b"]), ("", None), ((0,), (0,)), ((0, 1), (1,)), ((), ()),
+    ((0,), (False,)), ([0], (0,)), (((0,), (0,)),), (((0,), (1,)), ((1,), (0,))), (((0,), (0,)), ((0,), (0,))), (((0,), {}),),
+    ("holds",), ("holds", 1), ("from", 0), ("from", True), ("from", -1), ("grip", 0), ("grip", 1), ("grip", "1"), ("floats", 1),
+    ("floats", 0), ("floats", 10 ** 39), ("floats",), ("weft", "a"), ("weft", []), ("weft", "c"), ("slips", "a"), ("slips", ()),
+    ("falls", "a"), "found t ab shafts 1;threading 0;lift a", "names", "undo", "told t", ("names",), Growth(PLAIN, "a", ("ab", "a")),
+    (Growth(PLAIN, "", ("", "")),), House(), (House(),), Console(), ("cloth", "x-\n-x", ("holds", ())), ("cloth", Cloth(("x",)), ()),
+    ("unlike", "x", ("unlike", (0,), (0,))), ("one treadling", str(PLAIN), "ab", "1(ab)"), ("one treadling", str(PLAIN), "-", "0(ab)"),
 )
 
 

@@ -25,9 +25,9 @@ NO_NAMES = set(
 NO_WORDS = re.compile(
     r"\b(type|typing|typing_extensions|enum|Enum|IntEnum|StrEnum|Flag|IntFlag|Generic|Protocol|ABC|ABCMeta|namedtuple|NamedTuple"
     r"|TypedDict|TYPE_CHECKING|abstractmethod)\b|dataclass|overload|contextmanager|_wall|%|\bf_|\btb_|\bco_")
-DOUBLE = set("__init__ __eq__ __str__ __len__ __add__".split())
+DOUBLE = set("__init__ __eq__ __str__ __len__ __add__ __contains__".split())
 NO_NODES = (
-    ast.AsyncFunctionDef, ast.Await, ast.Global, ast.Nonlocal, ast.GeneratorExp, ast.Try, ast.With, ast.Match, ast.AnnAssign,
+    ast.AsyncFunctionDef, ast.Await, ast.Global, ast.Nonlocal, ast.GeneratorExp, ast.With, ast.Match, ast.AnnAssign,
     ast.YieldFrom, ast.NamedExpr, ast.Div, ast.Import, ast.Delete, ast.Assert)
 
 
@@ -199,6 +199,37 @@ class RulesTest(unittest.TestCase):
                 made = isinstance(node, ast.Call) and isinstance(node.func, ast.Name) and node.func.id == "set"
                 if made or isinstance(node, (ast.Set, ast.SetComp)):
                     self.assertIn(node, let)
+
+    def test_errors(self):
+        own = {node.name for node in tree_of(FOLDER / "errors.py").body if isinstance(node, ast.ClassDef)}
+        for _, tree in self.each():
+            for node in ast.walk(tree):
+                if isinstance(node, ast.Raise):
+                    self.assertIsInstance(node.exc, ast.Call)
+                    self.assertIn(node.exc.func.id, own)
+                if isinstance(node, ast.ExceptHandler):
+                    named = node.type.elts if isinstance(node.type, ast.Tuple) else [node.type]
+                    self.assertLessEqual({name.id for name in named}, own)
+                    self.assertIsNone(node.name)
+                if isinstance(node, ast.Try):
+                    self.assertEqual(node.orelse, [])
+                    for line in node.finalbody:
+                        self.assertIsInstance(line, ast.Assign)
+                        self.assertIsInstance(line.targets[0], ast.Attribute)
+                        self.assertIsInstance(line.value, ast.Name)
+
+    def test_tables(self):
+        for _, tree in self.each():
+            tables = {node.targets[0].id: node.value for node in tree.body if isinstance(node, ast.Assign)}
+            own = {node.name for node in tree.body if isinstance(node, ast.FunctionDef)}
+            for value in tables.values():
+                for part in ast.walk(value):
+                    self.assertNotIsInstance(part, (ast.Call, ast.Attribute, ast.Set))
+                    if isinstance(part, ast.Name) and isinstance(part.ctx, ast.Load):
+                        self.assertIn(part.id, own)
+                if isinstance(value, (ast.Dict, ast.Tuple)):
+                    inner = [part for part in ast.walk(value) if part is not value]
+                    self.assertFalse(any(isinstance(part, (ast.Dict, ast.List)) for part in inner))
 
     def test_double_underscores(self):
         for _, tree in self.each():
