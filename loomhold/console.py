@@ -15,6 +15,7 @@ OK = "ok"
 NO = "no"
 NONE = "-"
 MOST_NUMBER = 12
+LEAST_NUMBERS = {"from 0 on": 0, "from 1 on": 1}
 
 # For each command what stands behind its word; a loom or a roll is the rest, however many words it has.
 FORMS = {
@@ -46,6 +47,7 @@ def parts_of_command(command):
     form = FORMS[word]
     if form[-1:] == ("loom",) or form[-1:] == ("roll",):
         last = len(form) - 1
+        # Without a rest there is an empty one, which is the text of none.
         texts = [*texts[:last], " ".join(texts[last:])]
     if len(texts) != len(form):
         raise InvalidCommand()
@@ -56,14 +58,24 @@ def part_told(kind, text):
     """What a part of a command tells; InvalidCommand if it is none of its kind."""
     if kind == "name" and is_name(text):
         return text
-    if kind == "script" and text != "" and (text == NONE or is_script(text)):
-        return "" if text == NONE else text
-    numbers = [str(number) for number in range(MOST_NUMBER + 1)]
-    if kind == "from 0 on" and text in numbers or kind == "from 1 on" and text in numbers[1:]:
-        return numbers.index(text)
+    if kind == "script" and text == NONE:
+        return ""
+    if kind == "script" and text != "" and is_script(text):
+        return text
+    if kind in LEAST_NUMBERS:
+        return number_told(LEAST_NUMBERS[kind], text)
     if kind == "loom" or kind == "roll":
         return rest_told(kind, text)
     raise InvalidCommand()
+
+
+def number_told(least, text):
+    """The integer from a least one on that is written so; InvalidCommand if there is none."""
+    numbers = range(least, MOST_NUMBER + 1)
+    found = [number for number in numbers if str(number) == text]
+    if found == []:
+        raise InvalidCommand()
+    return found[0]
 
 
 def rest_told(kind, text):

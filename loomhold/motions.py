@@ -27,8 +27,13 @@ def turn_of(letters):
 
 
 def exchanged_turn(turn):
-    """What a turn is where warps have become wefts: ends are mirrored as picks were, and picks as ends were."""
-    return "".join([{"e": "p", "p": "e"}.get(letter, letter) for letter in turn])
+    """A turn where warps have become wefts: ends are mirrored as picks were, and picks as ends were."""
+    exchanged = turn.replace("e", "").replace("p", "")
+    if "e" in turn:
+        exchanged = exchanged + "p"
+    if "p" in turn:
+        exchanged = exchanged + "e"
+    return turn_of(exchanged)
 
 
 def place_led(turn, down, across):
@@ -50,7 +55,7 @@ def back_of(motion):
     """The motion that leads back."""
     turn, down, across = motion
     # Turns without w lead back themselves; with w what is mirrored behind it was mirrored across ahead of it.
-    way = turn_of(exchanged_turn(turn)) if "w" in turn else turn
+    way = exchanged_turn(turn) if "w" in turn else turn
     led = place_led(way, -down, -across)
     return (way, led[0], led[1])
 
