@@ -78,13 +78,12 @@ def mended(cloth):
 
 def is_free_lot(cloth, thing):
     """Tell whether any value is a free lot."""
-    if not isinstance(thing, tuple) or thing == () or not all([is_strand(cloth, item) for item in thing]):
+    if not isinstance(thing, tuple) or not all([is_strand(cloth, item) for item in thing]) or not is_ascending(thing):
         return False
     outside = [strand for strand in strands(cloth) if strand not in thing]
-    if not is_ascending(thing) or outside == []:
-        return False
-    # Some strand of the lot crosses one outside, always; so they lie over one another in one way or in two.
-    return len({is_over(cloth, one, other) for one in thing for other in outside if one[0] != other[0]}) == 1
+    # With one strand or more in the lot, and outside, some of both cross: so there is one way at least.
+    ways = [is_over(cloth, one, other) for one in thing for other in outside if one[0] != other[0]]
+    return len(set(ways)) == 1
 
 
 def border(cloth, lot):

@@ -39,17 +39,12 @@ def does_move_to(cloth, motion, other):
 def motions_between(cloth, other):
     """The ascending list of the motions below the other one's periods that lead one pattern to the other one."""
     own = list(ground(cloth).picks)
-    goal = ground(other)
-    found = []
-    for turn in TURNS:
-        rows = turned_rows(own, turn)
-        if len(rows) == len(goal) and len(rows[0]) == goal.ends:
-            found.extend([(turn, down, across) for down, across in moves_between(rows, list(goal.picks))])
-    return found
+    goal = list(ground(other).picks)
+    return [(turn, down, across) for turn in TURNS for down, across in moves_between(turned_rows(own, turn), goal)]
 
 
 def moves_between(rows, goal):
-    """The ascending list of the pairs (down, across) that move rows to a goal of their size."""
+    """The ascending list of the pairs (down, across), below their size, that move rows to a goal."""
     across_rows = [[shifted(row, across) for row in rows] for across in range(len(rows[0]))]
     return [(down, across) for down in range(len(rows)) for across, here in enumerate(across_rows)
             if shifted(here, down) == goal]

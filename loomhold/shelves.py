@@ -141,14 +141,13 @@ def is_slip(loom, chart, number, thing):
 def first_other(loom, other, rolls):
     """The index of the first roll with picks whose cloth another loom does not weave, too; None if there is none."""
     for place, roll in enumerate(rolls):
-        letters = letters_within(roll)
-        if letters != "" and not do_weave_alike(loom, other, letters):
+        if not do_weave_alike(loom, other, letters_within(roll)):
             return place
     return None
 
 
 def do_weave_alike(loom, other, letters):
-    """Tell whether some letters, one or more, of a loom are letters of another loom that lay the same picks."""
+    """Tell whether some letters of a loom, perhaps none, are letters of another loom that lay the same picks."""
     if not all([letter in other.letters for letter in letters]):
         return False
     return all([pick_of(loom.threading, loom.lift_of(letter)) == pick_of(other.threading, other.lift_of(letter))

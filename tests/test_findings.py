@@ -288,6 +288,12 @@ class FindingsTest(unittest.TestCase):
             self.assertIs(finding_holds(("broken", str(wide), str(ANY), ("floats", number), ("weft", letter))), right)
         chart = chart_of("a", "ab")
         self.assertIs(finding_holds(("broken", str(wide), str(chart), ("floats", 1), ("weft", "b"))), False)
+        # That the floats of the ends are within the number shows no broken promise, though those of the picks are not.
+        paper = judge_within(wide, chart, 1)
+        self.assertEqual(paper[:2], ("within", 1))
+        self.assertIs(finding_holds(("within", str(wide), str(chart), 1, paper)), True)
+        self.assertIs(finding_holds(("broken", str(wide), str(chart), ("floats", 1), paper)), False)
+        self.assertIs(finding_holds(("broken", str(wide), str(chart), ("floats", 1), ("weft", "a"))), True)
 
     def test_any_and_changed_ones(self):
         rng = random.Random(981)

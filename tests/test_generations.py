@@ -303,6 +303,28 @@ class TooManyTest(unittest.TestCase):
                         self.assertEqual(raised(self, TooMany, judge, growth, most=most).most, most)
 
 
+    def test_more_than_two_thousand(self):
+        # Each generation has one letter more, all of one side: the maps at 3,001 come round behind 3,000 generations.
+        loom = Loom(1, (0,), ((0,), (0,)))
+        growth = Growth(loom, "a", ("ab", "b"))
+        calls = [lambda **more: map_round(growth, 3001, **more), lambda **more: float_row(growth, 3000, **more),
+                 lambda **more: first_float_above(growth, 3000, **more), lambda **more: judge_grown_floats(growth, 3000, **more),
+                 lambda **more: is_within_at(growth, 2000, 3000, **more), lambda **more: is_within_at(growth, 10 ** 30, 3000, **more)]
+        for call in calls:
+            self.assertEqual(raised(self, TooMany, call).most, 2000)
+            self.assertEqual(raised(self, TooMany, call, most=1500).most, 1500)
+        self.assertIs(is_within_at(growth, 1999, 3000), True)
+        self.assertEqual(map_round(growth, 3001, most=4000), (3000, 1))
+        self.assertEqual(first_float_above(growth, 3000, most=4000), 3000)
+        self.assertEqual(float_row(growth, 3000, most=4000), ("x" * 3000, "-"))
+        self.assertEqual(first_float_above(growth, 1500), 1500)
+        self.assertEqual(judge_grown_floats(growth, 1999), ("broken", 1999))
+        self.assertIs(grown_floats_hold(growth, 3000, ("broken", 1999)), False)
+        self.assertIs(grown_floats_hold(growth, 3000, ("kept", 1999, 1)), False)
+        self.assertIs(grown_floats_hold(growth, 1999, ("broken", 10 ** 30)), True)
+        self.assertIsInstance(grown_floats_hold(growth, 3000, ("broken", 10 ** 30)), bool)
+
+
 class PapersTest(unittest.TestCase):
 
     def test_papers_of_others(self):

@@ -251,6 +251,9 @@ class HouseTest(unittest.TestCase):
         self.assertEqual(raised(self, Broken, house.add_promise, "u", ("holds",)).promise, ("holds",))
         house.bring("u", PLAIN, EVEN)
         house.add_promise("u", ("holds",))
+        house.found("v", PLAIN, EVEN)
+        house.bring("v", BELOW, EVEN)
+        self.assertTrue(is_right_broken_paper(BELOW, EVEN, ("holds",), raised(self, Broken, house.add_promise, "v", ("holds",)).paper))
 
     def test_errors_of_bring_in_their_order(self):
         house = small()
@@ -292,6 +295,17 @@ class HouseTest(unittest.TestCase):
         self.assertIs(raised(self, NotOfChart, house.weave, "t", ("ab",)).roll[0], "ab")
         self.assertEqual(raised(self, BadRoll, house.weave, "t", ("d",)).thing, ("d",))
         self.assertEqual(raised(self, OtherPicture, house.bring, "t", other.with_lift("c", ()), EVEN).place, 4)
+
+    def test_the_gate_asks_the_loom_in_use(self):
+        house = House()
+        house.found("t", PLAIN, ANY)
+        house.bring("t", BELOW, ANY)
+        house.weave("t", ("b",))
+        house.weave("t", ("a",))
+        self.assertEqual(raised(self, OtherPicture, house.bring, "t", PLAIN, ANY).place, 1)
+        house.bring("t", WIDER.with_lift("a", (0, 1, 2, 3)), ONCE)
+        house.weave("t", ("c",))
+        self.assertEqual(raised(self, OtherPicture, house.bring, "t", BELOW, ANY).place, 2)
 
     def test_weaving(self):
         house = small()
