@@ -103,10 +103,10 @@ def treadling_read(lines, number, loom, heads):
 
 def generation(growth, n, *, most=2000):
     """The treadling of a generation; TooLong(most) if it has more letters than most."""
-    if picks_at(growth, n) > most:
+    picks = picks_at(growth, n)
+    if picks > most:
         raise TooLong(most)
-    words = grown_words(growth, n, most)[n]
-    return "".join([words[letter] for letter in growth.start])
+    return letters_between(growth, n, 0, picks)
 
 
 def letters_at(growth, n):
